@@ -1,0 +1,1 @@
+"""Streams of told chance, and values drawn from them."""
