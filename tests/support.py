@@ -2,10 +2,12 @@
 
 import unittest
 
+from tests.model import rows
 from toldchance.bank import answers
 
 SEED, RAW, RAWS, SKIP, BACK, MIRROR, WHERE, FAR, GOTO, COPY, SPACE = range(11)
-WHOLE, CHOOSE, SHUFFLE, SAMPLE = range(11, 15)
+WHOLE, CHOOSE, SHUFFLE, SAMPLE, MIX, LOTS = range(11, 17)
+DEFINE, FORGET, TOLD, VALUE, DRAW, DRAWS, SHARES, MOMENTS, BELOW, HITS, BLEND, BEND = range(17, 29)
 
 STATES = 2 ** 64
 RAW_NUMBERS = 2 ** 32
@@ -13,6 +15,12 @@ FACTOR = 6364136223846793005
 SUMMAND = 1442695040888963407
 UNDO = pow(FACTOR, -1, STATES)
 HUGE = 10 ** 41
+MOST = 10 ** 18
+HALF = RAW_NUMBERS // 2
+LAST = RAW_NUMBERS - 1
+
+# Numbers that no stream and no place of a distribution has.
+NOWHERE = (-1, 64, -HUGE, HUGE)
 
 
 def follow(state, steps=1):
@@ -74,10 +82,22 @@ def ask(*calls):
     return parts
 
 
-EVERYWHERE = [(WHERE, k) for k in range(64)]
+def defined(d, classes):
+    """The call that defines place d as the classes of tests.model."""
+    return (DEFINE, d, 5, *rows(classes))
 
-# Streams that differ in all they have, so that a change of any shows.
-UNEVEN = [(SEED, 0, 99), (RAWS, 0, 3), (MIRROR, 0, 1), (SKIP, 5, 10 ** 19), (BACK, 63, 7), (MIRROR, 63, 1)]
+
+EVERYWHERE = [(WHERE, k) for k in range(64)]
+EVERYTHING = EVERYWHERE + [(TOLD, d) for d in range(64)]
+
+# Streams and places that differ in all they have, so that a change of any shows. Of the
+# places 0, 5 and 63 are filled, the others are empty.
+UNEVEN = [
+    (SEED, 0, 99), (RAWS, 0, 3), (MIRROR, 0, 1), (SKIP, 5, 10 ** 19), (BACK, 63, 7), (MIRROR, 63, 1),
+    (DEFINE, 0, 0, [-7, 3], []),
+    (DEFINE, 5, 5, [2, 0, 3], [0, 1, 2, -5, 3, 0, 1, 9, 1, 1, 1, 4, 1, -8, 1, -2, 7, 12]),
+    (DEFINE, 63, 9, [2, 6], []),
+]
 
 
 class CallTest(unittest.TestCase):
@@ -85,13 +105,15 @@ class CallTest(unittest.TestCase):
         """The last call answers what is expected."""
         self.assertEqual(ask(*calls)[-1], expected)
 
-    def refused(self, number, *call):
-        """The call is refused with the number, and every stream stays as it is."""
-        calls = UNEVEN + EVERYWHERE + [call] + EVERYWHERE
+    def refused(self, number, *call, given=()):
+        """The call is refused with the number, and every stream and place stays as it is."""
+        before = UNEVEN + list(given)
+        calls = before + EVERYTHING + [call] + EVERYTHING
         parts = ask(*calls)
-        start = len(UNEVEN)
-        self.assertEqual(parts[start + 64], [number])
-        self.assertEqual(parts[start:start + 64], parts[start + 65:])
+        start = len(before)
+        end = start + len(EVERYTHING)
+        self.assertEqual(parts[end], [number], call)
+        self.assertEqual(parts[start:end], parts[end + 1:])
 
     def done(self, *call):
         """The call is not refused."""

@@ -3,14 +3,9 @@
 from fractions import Fraction
 
 from tests.support import (
-    CHOOSE, HUGE, MIRROR, RAW_NUMBERS, SEED, STATES, WHERE, WHOLE,
+    CHOOSE, HALF, HUGE, LAST, MIRROR, MOST, NOWHERE, RAW_NUMBERS, SEED, STATES, WHERE, WHOLE,
     CallTest, ask, follow, raw_numbers, state_for,
 )
-
-NO_STREAMS = (-1, 64, -HUGE, HUGE)
-MOST = 10 ** 18
-HALF = RAW_NUMBERS // 2
-LAST = RAW_NUMBERS - 1
 
 
 class Whole(CallTest):
@@ -59,7 +54,7 @@ class Whole(CallTest):
             self.answered([0, raw_numbers(k, 1)[0] * 1000 // RAW_NUMBERS], (WHOLE, k, 0, 999))
 
     def test_refusals(self):
-        for k in NO_STREAMS:
+        for k in NOWHERE:
             self.refused(-1, WHOLE, k, 1, 6)
         for a, b in ((-MOST - 1, 0), (0, MOST + 1), (MOST + 1, MOST + 1), (-MOST - 1, -MOST - 1), (-HUGE, HUGE),
                      (-MOST - 1, MOST + 1), (1, 0), (MOST, -MOST), (MOST, MOST - 1), (HUGE, 0), (0, -HUGE)):
@@ -137,7 +132,7 @@ class Choose(CallTest):
             self.answered([0, self.by_words(raw_numbers(k, 1)[0], [1] * 50)], (CHOOSE, k, [1] * 50))
 
     def test_no_stream(self):
-        for k in NO_STREAMS:
+        for k in NOWHERE:
             self.refused(-1, CHOOSE, k, [1, 2])
 
     def test_weights_that_are_not_right(self):

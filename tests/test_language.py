@@ -33,6 +33,8 @@ PYTHONS_METHODS = set(
     "items join keys ljust lower lstrip partition pop remove replace reverse rfind rjust rpartition rsplit rstrip "
     "setdefault split splitlines startswith strip update upper values zfill bit_length".split()
 )
+WALKERS = ("list", "tuple", "dict", "sorted", "sum", "any", "all", "enumerate", "zip", "min", "max")
+CHANGES = ("append", "clear", "extend", "insert", "pop", "remove", "reverse", "setdefault", "update")
 BANNED_WORDS = (
     r"\b(type|typing|typing_extensions|enum|Enum|IntEnum|StrEnum|Flag|IntFlag|Generic|Protocol|ABC|ABCMeta|namedtuple"
     r"|NamedTuple|TypedDict|TYPE_CHECKING|abstractmethod|register|mro|elements|open|input)\b"
@@ -84,8 +86,8 @@ class Language(unittest.TestCase):
             self.assertIsNotNone(ast.get_docstring(tree), name)
             loose = [node for node in ast.walk(tree) if isinstance(node, ast.Expr) and not isinstance(node.value, ast.Call)]
             self.assertEqual(loose, tree.body[:1], name)
-        for place, node in nodes(ast.Div, ast.MatMult, ast.Is, ast.IsNot):
-            self.fail(place)
+        for place, node in nodes(ast.BinOp, ast.AugAssign):
+            self.assertNotIsInstance(node.op, (ast.Div, ast.MatMult), place)
         for place, node in nodes(ast.Constant):
             self.assertIsInstance(node.value, (int, str, type(None)), place)
         for place, node in nodes(ast.For, ast.While, ast.Try):
@@ -95,14 +97,71 @@ class Language(unittest.TestCase):
             self.assertEqual(len(node.generators), 1, place)
             self.assertLessEqual(len(node.generators[0].ifs), 1, place)
 
+    def test_is_stands_beside_none_true_and_false_alone(self):
+        for place, node in nodes(ast.Compare):
+            for sign, other in zip(node.ops, node.comparators):
+                if isinstance(sign, (ast.Is, ast.IsNot)):
+                    self.assertTrue(isinstance(other, ast.Constant) and other.value in (None, True, False), place)
+
+    def test_exponents_are_written(self):
+        for place, node in nodes(ast.BinOp, ast.AugAssign):
+            if isinstance(node.op, ast.Pow):
+                self.assertIsInstance(node.right, ast.Constant, place)
+                self.assertLessEqual(node.right.value, 64, place)
+
+    def test_what_is_walked_is_walked_on_the_spot(self):
+        at_once = set()
+        for _, node in nodes(ast.For, ast.comprehension):
+            at_once.add(self.text_of(node.iter))
+        for _, node in nodes(ast.Call):
+            if isinstance(node.func, ast.Name) and node.func.id in WALKERS and node.args:
+                at_once.add(self.text_of(node.args[0]))
+        for place, node in nodes(ast.Call):
+            if isinstance(node.func, ast.Name) and node.func.id in ("zip", "enumerate", "reversed", "range"):
+                self.assertIn(self.text_of(node), at_once, place)
+
+    def text_of(self, node):
+        return ast.dump(node, include_attributes=True)
+
+    def test_what_a_loop_walks_is_not_changed_in_it(self):
+        for place, loop in nodes(ast.For):
+            walked = {node.id for node in ast.walk(loop.iter) if isinstance(node, ast.Name)}
+            for node in ast.walk(loop):
+                if isinstance(node, ast.Subscript) and isinstance(node.ctx, ast.Store) and isinstance(node.value, ast.Name):
+                    self.assertNotIn(node.value.id, walked, place)
+                if isinstance(node, ast.Call) and isinstance(node.func, ast.Attribute) and isinstance(node.func.value, ast.Name):
+                    if node.func.attr in CHANGES:
+                        self.assertNotIn(node.func.value.id, walked, place)
+
+    def test_rows_of_a_files_top_are_only_read(self):
+        for name, tree in trees():
+            kept = {node.targets[0].id for node in tree.body if isinstance(node, ast.Assign) and isinstance(node.value, (ast.Dict, ast.List, ast.Tuple))}
+            read = []
+            for node in ast.walk(tree):
+                if isinstance(node, ast.Subscript) and isinstance(node.ctx, ast.Load):
+                    read.append(node.value)
+                if isinstance(node, ast.Compare) and isinstance(node.ops[0], ast.In):
+                    read.append(node.comparators[0])
+            for node in ast.walk(tree):
+                if isinstance(node, ast.Name) and isinstance(node.ctx, ast.Load) and node.id in kept:
+                    self.assertIn(node, read, f"{name}:{node.lineno}")
+
+    def test_keywords(self):
+        for place, node in nodes(ast.Call):
+            for keyword in node.keywords:
+                self.assertEqual((node.func.id, keyword.arg, type(keyword.value)), ("sorted", "key", ast.Lambda), place)
+
     def test_functions_and_classes(self):
         for place, node in nodes(ast.FunctionDef):
             plain = node.args
             self.assertFalse(node.decorator_list or plain.vararg or plain.kwarg or plain.kwonlyargs or plain.posonlyargs, place)
+            self.assertTrue(node.returns is None and all(one.annotation is None for one in plain.args), place)
         for place, node in nodes(ast.ClassDef):
             self.assertFalse(node.decorator_list or node.keywords or len(node.bases) > 1, place)
             for part in node.body:
                 self.assertIsInstance(part, ast.FunctionDef, place)
+            methods = [part.name for part in node.body]
+            self.assertEqual(len(methods), len(set(methods)), place)
 
     def test_imports_come_from_the_defining_file_and_never_in_a_ring(self):
         drawn = {}

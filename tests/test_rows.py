@@ -1,11 +1,9 @@
 """The calls shuffle and sample."""
 
 from tests.support import (
-    HUGE, MIRROR, RAW_NUMBERS, SAMPLE, SEED, SHUFFLE, STATES, WHERE,
+    HUGE, MIRROR, NOWHERE, RAW_NUMBERS, SAMPLE, SEED, SHUFFLE, STATES, WHERE,
     CallTest, ask, follow, precede, raw_numbers,
 )
-
-NO_STREAMS = (-1, 64, -HUGE, HUGE)
 
 
 def exchanged(numbers, n, m):
@@ -53,7 +51,7 @@ class Shuffle(CallTest):
         self.assertEqual(ask((SEED, 8, precede(STATES - 1)), (SHUFFLE, 8, 9))[1][2], 8)
 
     def test_refusals(self):
-        for k in NO_STREAMS:
+        for k in NOWHERE:
             self.refused(-1, SHUFFLE, k, 5)
         for n in (-1, 1001, -HUGE, HUGE):
             self.refused(-3, SHUFFLE, 5, n)
@@ -85,7 +83,7 @@ class Sample(CallTest):
             self.answered([0, 0], (SAMPLE, 8, n, 0))
 
     def test_refusals(self):
-        for k in NO_STREAMS:
+        for k in NOWHERE:
             self.refused(-1, SAMPLE, k, 5, 2)
         for n in (-1, 1001, -HUGE, HUGE):
             self.refused(-3, SAMPLE, 5, n, 0)

@@ -1,11 +1,10 @@
 """The streams, and the calls seed, raw, raws, skip, back, mirror, where."""
 
 from tests.support import (
-    BACK, EVERYWHERE, HUGE, MIRROR, RAW, RAWS, SEED, SKIP, STATES, WHERE,
+    BACK, EVERYWHERE, HUGE, MIRROR, NOWHERE, RAW, RAWS, SEED, SKIP, STATES, WHERE,
     CallTest, ask, follow, jump, precede, raw_numbers,
 )
 
-NO_STREAMS = (-1, 64, -HUGE, HUGE)
 NO_STEPS = (-1, STATES, -HUGE, HUGE)
 
 
@@ -23,7 +22,7 @@ class Where(CallTest):
         self.answered([0, follow(9, 2), 9, 2, 1], (SEED, 4, 9), (RAWS, 4, 2), (MIRROR, 4, 1), (WHERE, 4))
 
     def test_no_stream(self):
-        for k in NO_STREAMS:
+        for k in NOWHERE:
             self.refused(-1, WHERE, k)
 
 
@@ -43,7 +42,7 @@ class Seed(CallTest):
         self.assertEqual(parts, [[0, k, k, 0, 0] for k in range(64) if k != 7])
 
     def test_refusals(self):
-        for k in NO_STREAMS:
+        for k in NOWHERE:
             self.refused(-1, SEED, k, 5)
         for s in NO_STEPS:
             self.refused(-2, SEED, 5, s)
@@ -71,7 +70,7 @@ class Raw(CallTest):
             self.answered([0] + raw_numbers(k, 1), (RAW, k))
 
     def test_no_stream(self):
-        for k in NO_STREAMS:
+        for k in NOWHERE:
             self.refused(-1, RAW, k)
 
 
@@ -95,7 +94,7 @@ class Raws(CallTest):
             self.answered([0, 1000] + raw_numbers(k, 1000), (RAWS, k, 1000))
 
     def test_refusals(self):
-        for k in NO_STREAMS:
+        for k in NOWHERE:
             self.refused(-1, RAWS, k, 5)
         for n in (-1, 1001, -HUGE, HUGE):
             self.refused(-3, RAWS, 5, n)
@@ -128,7 +127,7 @@ class Skip(CallTest):
         self.answered([0, follow(5, 3), 5, 3, 1], (MIRROR, 5, 1), (SKIP, 5, 3), (WHERE, 5))
 
     def test_refusals(self):
-        for k in NO_STREAMS:
+        for k in NOWHERE:
             self.refused(-1, SKIP, k, 5)
         for n in NO_STEPS:
             self.refused(-2, SKIP, 5, n)
@@ -167,7 +166,7 @@ class Back(CallTest):
         self.answered([0, precede(5, 3), 5, -3, 1], (MIRROR, 5, 1), (BACK, 5, 3), (WHERE, 5))
 
     def test_refusals(self):
-        for k in NO_STREAMS:
+        for k in NOWHERE:
             self.refused(-1, BACK, k, 5)
         for n in NO_STEPS:
             self.refused(-2, BACK, 5, n)
@@ -194,7 +193,7 @@ class Mirror(CallTest):
         self.answered([0, 0], (SEED, 2, precede(STATES - 1)), (MIRROR, 2, 1), (RAW, 2))
 
     def test_refusals(self):
-        for k in NO_STREAMS:
+        for k in NOWHERE:
             self.refused(-1, MIRROR, k, 1)
         for b in (-1, 2, -HUGE, HUGE):
             self.refused(-4, MIRROR, 5, b)

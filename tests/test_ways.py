@@ -1,11 +1,10 @@
 """The calls far, goto, copy, space."""
 
 from tests.support import (
-    BACK, COPY, EVERYWHERE, FAR, GOTO, HUGE, MIRROR, RAWS, SEED, SKIP, SPACE, STATES, UNEVEN, WHERE,
+    BACK, COPY, EVERYWHERE, FAR, GOTO, HUGE, MIRROR, NOWHERE, RAWS, SEED, SKIP, SPACE, STATES, UNEVEN, WHERE,
     CallTest, ask, follow, jump, precede,
 )
 
-NO_STREAMS = (-1, 64, -HUGE, HUGE)
 NO_STEPS = (-1, STATES, -HUGE, HUGE)
 SOME_STATES = (0, 1, 2, 63, 2 ** 32, 2 ** 63, 12345678901234567890, STATES - 2, STATES - 1)
 
@@ -69,7 +68,7 @@ class Goto(CallTest):
                 self.assertEqual(stands, [0, y, k, way[1], 0])
 
     def test_refusals(self):
-        for k in NO_STREAMS:
+        for k in NOWHERE:
             self.refused(-1, GOTO, k, 5)
         for y in NO_STEPS:
             self.refused(-2, GOTO, 5, y)
@@ -101,7 +100,7 @@ class Copy(CallTest):
         self.assertEqual(parts[:4] + parts[5:], [[0, k, k, 0, 0] for k in range(64) if k != 4])
 
     def test_refusals(self):
-        for wrong in NO_STREAMS:
+        for wrong in NOWHERE:
             self.refused(-1, COPY, wrong, 5)
             self.refused(-1, COPY, 5, wrong)
             self.refused(-1, COPY, wrong, wrong)
@@ -153,7 +152,7 @@ class Space(CallTest):
         self.answered([0, state, state, 0, 0], (SPACE, 40, 24, 5), (WHERE, 63))
 
     def test_refusals(self):
-        for k in NO_STREAMS:
+        for k in NOWHERE:
             self.refused(-1, SPACE, k, 1, 5)
         for n in (-1, 0, 65, -HUGE, HUGE):
             self.refused(-3, SPACE, 0, n, 5)

@@ -1,15 +1,21 @@
-"""The bank of streams, and the answers to the calls on a new one."""
+"""The bank of streams and distributions, and the answers to the calls on a new one.
 
-from toldchance.checks import STREAMS
-from toldchance.drawcalls import answer_draw_call
+A place of distributions that is empty holds None.
+"""
+
+from toldchance.checks import PLACES, STREAMS
+from toldchance.drawcalls import answer_draw_call, is_draw_call
+from toldchance.placecalls import answer_place_call, is_place_call
 from toldchance.reader import Reader
 from toldchance.streamcalls import answer_stream_call, is_stream_call
 from toldchance.streams import Stream
+from toldchance.valuecalls import answer_value_call
 
 
 class Bank:
     def __init__(self):
         self.streams = [Stream(k) for k in range(STREAMS)]
+        self.distributions = [None] * PLACES
 
 
 def answers(calls):
@@ -27,4 +33,8 @@ def answer_call(bank, reader):
     place = reader.take()
     if is_stream_call(place):
         return answer_stream_call(bank, place, reader)
-    return answer_draw_call(bank, place, reader)
+    if is_draw_call(place):
+        return answer_draw_call(bank, place, reader)
+    if is_place_call(place):
+        return answer_place_call(bank, place, reader)
+    return answer_value_call(bank, place, reader)

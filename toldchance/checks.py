@@ -9,12 +9,19 @@ WRONG_MIRROR = -4
 WRONG_BOUND = -5
 WRONG_WEIGHTS = -6
 WRONG_PART = -7
+WRONG_PLACE = -8
+NO_DISTRIBUTION = -10
+WRONG_RAW = -11
+EMPTY_PLACE = -12
 
 STREAMS = 64
+PLACES = 64
 MOST_RAWS = 1000
 MOST_WEIGHTS = 64
+MOST_TEETH = 1000000000000000000
 GREATEST_BOUND = 1000000000000000000
 GREATEST_SUM = 10000000000000000000000000000000000000000
+GREATEST_FACTOR = 1000000000
 
 
 def within(number, least, greatest):
@@ -44,3 +51,16 @@ def are_weights(row):
     if min(row) < 0:
         return False
     return within(sum(row), 1, GREATEST_SUM)
+
+
+def is_place(number):
+    return within(number, 0, PLACES - 1)
+
+
+# 0 where nothing is to be refused.
+def place_refusal(bank, d):
+    if not is_place(d):
+        return WRONG_PLACE
+    if bank.distributions[d] is None:
+        return EMPTY_PLACE
+    return 0

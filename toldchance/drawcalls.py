@@ -1,4 +1,4 @@
-"""The calls from 11 on that draw whole numbers, places and rows from a stream.
+"""The calls 11 to 16, which draw whole numbers, places and rows from a stream.
 
 Each takes its numbers and rows from the reader before anything else, so that a
 refused call leaves the reader at the next one.
@@ -6,7 +6,7 @@ refused call leaves the reader at the next one.
 
 from toldchance.checks import WRONG_BOUND, WRONG_LENGTH, WRONG_PART, WRONG_STREAM, WRONG_WEIGHTS
 from toldchance.checks import are_weights, is_bound, is_length, is_stream, within
-from toldchance.drawing import chosen_place, portion, shuffled
+from toldchance.drawing import chosen_place, lots_drawn, portion, shuffled
 
 
 def whole(bank, reader):
@@ -55,12 +55,43 @@ def sample(bank, reader):
     return [0, m] + shuffled(bank.streams[k], list(range(n)), m)
 
 
+def mix(bank, reader):
+    k = reader.take()
+    row = reader.take_row()
+    if not is_stream(k):
+        return [WRONG_STREAM]
+    if not is_length(len(row)):
+        return [WRONG_LENGTH]
+    if not all([is_bound(number) for number in row]):
+        return [WRONG_BOUND]
+    return [0, len(row)] + shuffled(bank.streams[k], row, len(row))
+
+
+def lots(bank, reader):
+    k = reader.take()
+    m = reader.take()
+    weights = reader.take_row()
+    if not is_stream(k):
+        return [WRONG_STREAM]
+    if not are_weights(weights):
+        return [WRONG_WEIGHTS]
+    if not within(m, 0, len([weight for weight in weights if weight > 0])):
+        return [WRONG_PART]
+    return [0, m] + lots_drawn(bank.streams[k], weights, m)
+
+
 DRAW_CALLS = {
     11: whole,
     12: choose,
     13: shuffle,
     14: sample,
+    15: mix,
+    16: lots,
 }
+
+
+def is_draw_call(place):
+    return place in DRAW_CALLS
 
 
 def answer_draw_call(bank, place, reader):

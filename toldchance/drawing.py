@@ -3,6 +3,7 @@
 portion: which of so many equal portions, counted from 0, the raw number u falls in.
 chosen_place: the place among right weights that the raw number u leads to.
 shuffled: the first so many of the row, after as many exchanges of a shuffle.
+lots_drawn: so many places among right weights, none of them twice.
 """
 
 from toldchance.streams import RAW_NUMBERS
@@ -31,3 +32,13 @@ def shuffled(stream, row, many):
         mixed[i] = mixed[j]
         mixed[j] = held
     return mixed[:many]
+
+
+def lots_drawn(stream, weights, many):
+    left = list(weights)
+    places = []
+    for i in range(many):
+        place = chosen_place(stream.raw_number(), left)
+        places.append(place)
+        left[place] = 0
+    return places
